@@ -1,4 +1,4 @@
-"""What the arguments of a bound and of a shelf must look like.
+"""What the arguments of a bound and of a shelf, and trees, must look like.
 
 Each function takes a value of any kind and says whether it is what the name says.
 The checks of kinds come first, as a value that is not of its kind may not even be hashed or compared.
@@ -80,3 +80,18 @@ def are_requests(value, packages):
     if not isinstance(value, (list, tuple)) or not 1 <= len(value) <= 3:
         return False
     return all([is_selection(request, packages) and len(request) > 0 for request in value])
+
+
+def is_tree_form(value, deepest=6):
+    """Say whether a value has the form of a tree that is at most this deep."""
+    if deepest < 1 or not isinstance(value, tuple) or not 1 <= len(value) <= 2:
+        return False
+    if not isinstance(value[0], str):
+        return False
+    if len(value) == 1:
+        return value[0] == "done"
+    if value[0] == "bound":
+        return isinstance(value[1], str)
+    if value[0] != "choose" or not isinstance(value[1], tuple):
+        return False
+    return all([is_tree_form(part, deepest - 1) for part in value[1]])

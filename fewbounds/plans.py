@@ -6,6 +6,16 @@ The functions of the interface check their arguments; the other ones expect them
 from fewbounds.checks import check_plan, check_request, check_set, check_shelf
 
 
+def empty_plan(shelf):
+    """Return the plan without versions."""
+    return (0,) * len(shelf.packages)
+
+
+def with_version(plan, at, version):
+    """Return the plan that gives a package, by its index, this version, or 0 for none."""
+    return plan[:at] + (version,) + plan[at + 1:]
+
+
 def plan_items(shelf, plan):
     """Return the list of the items of a plan, in order."""
     return [(package, version) for package, version in zip(shelf.packages, plan) if version > 0]
@@ -25,7 +35,7 @@ def next_index(shelf, request, plan):
 def next_plans(shelf, plan, at):
     """Return the list of the plans that give a package, by its index, each of its versions, in order."""
     many = list(shelf.packages.values())[at]
-    return [plan[:at] + (version,) + plan[at + 1:] for version in range(1, many + 1)]
+    return [with_version(plan, at, version) for version in range(1, many + 1)]
 
 
 def finished_plans(shelf, request, plan):
@@ -42,7 +52,17 @@ def finished_plans(shelf, request, plan):
 def request_plans(shelf, request):
     """Return the list of all plans of a request, ordered as tuples."""
     # The next package may stand before one that has a version: so the plans are not found in this order.
-    return sorted(finished_plans(shelf, request, (0,) * len(shelf.packages)))
+    return sorted(finished_plans(shelf, request, empty_plan(shelf)))
+
+
+def is_plan_of(shelf, request, plan):
+    """Say whether a plan is one of a request: giving each next package its version of the plan leads to it."""
+    reached = empty_plan(shelf)
+    at = next_index(shelf, request, reached)
+    while at is not None and plan[at] > 0:
+        reached = with_version(reached, at, plan[at])
+        at = next_index(shelf, request, reached)
+    return at is None and reached == plan
 
 
 def has_break(shelf, plan):
@@ -61,6 +81,11 @@ def violates(shelf, name, plan):
 def is_allowed(shelf, bounds, plan):
     """Say whether a plan violates none of the bounds of a set."""
     return not any([violates(shelf, name, plan) for name in bounds])
+
+
+def is_good(shelf, bounds, plan):
+    """Say whether a set allows a plan, and the plan is not broken."""
+    return is_allowed(shelf, bounds, plan) and not has_break(shelf, plan)
 
 
 def allowed_plans(shelf, request, bounds):

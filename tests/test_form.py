@@ -80,6 +80,12 @@ class FormTest(unittest.TestCase):
             if isinstance(node.value, str):
                 self.assertNotIn("%", node.value, (name, node.lineno))
 
+    def test_a_class_with_getitem_says_how_it_is_iterated_over(self):
+        for name, node in nodes(ast.ClassDef):
+            methods = [part.name for part in node.body if isinstance(part, ast.FunctionDef)]
+            if "__getitem__" in methods:
+                self.assertIn("__iter__", methods, (name, node.name))
+
     def test_is_stands_beside_none_true_and_false(self):
         for name, node in nodes(ast.Compare):
             for sign, value in zip(node.ops, node.comparators):

@@ -7,13 +7,8 @@ from fewbounds.errors import BadPlan, BadRequest, BadSet, BadShelf
 from fewbounds.plans import allows, is_broken, is_right, next_package, plans, set_cost
 from fewbounds.shelves import Bound, Shelf
 
-from samples import ODD_VALUES, Same, all_plans, all_sets, backwards, example, random_shelf
-
-BAD_REQUESTS = ODD_VALUES + (1, 2, "0", (0,), Same())
-BAD_SETS = ODD_VALUES + ("old", ["old"], ("old", "old"), ("new", "old"), ("odd",), ("old", None), ("old", []),
-                         ("app",), {"old": 1}, (Same(),), (Same(), Same()), (1,), Same())
-BAD_PLANS = ODD_VALUES + ((), (1,), (1, 1, 1), (3, 1), (1, 3), (-1, 0), (0, -1), (True, 1), (1, False), (1, None),
-                          ("1", 1), [1, 1], {0: 1, 1: 1}, (Same(), 1), Same())
+from samples import BAD_PLANS, BAD_REQUESTS, BAD_SETS, NO_SHELVES, Refusing
+from samples import all_plans, all_sets, backwards, example, random_shelf
 
 
 def is_wanted(shelf, request, plan, package):
@@ -230,13 +225,7 @@ class RightTest(unittest.TestCase):
         self.assertEqual(set_cost(shelf, tuple("uvwxyz")), 54)
 
 
-class WrongInputTest(unittest.TestCase):
-    def refused(self, error, call, *words):
-        with self.subTest((call.__name__, words)), self.assertRaises(error) as caught:
-            call(*words)
-        self.assertIs(caught.exception.__class__, error)
-        return caught.exception
-
+class WrongInputTest(Refusing, unittest.TestCase):
     def calls(self):
         """Each function with right arguments behind the shelf, and the errors of these, in order."""
         return ((listed_plans, (0, ("old",)), (BadRequest, BadSet)), (next_package, (0, (1, 1)), (BadRequest, BadPlan)),
@@ -253,7 +242,7 @@ class WrongInputTest(unittest.TestCase):
 
     def test_bad_shelves(self):
         for call, rest, _ in self.calls():
-            for value in ODD_VALUES + (Same(), Shelf, "shelf"):
+            for value in NO_SHELVES:
                 self.assertIsNone(self.refused(BadShelf, call, value, *rest).part)
 
     def test_the_error_that_is_documented_first(self):
